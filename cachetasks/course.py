@@ -22,7 +22,20 @@ def answer(held, name, numbers, row):
         return held.tell_tasks()
     if name == "ranks":
         return held.tell_order()
-    raise NotImplementedError(name)
+    if name == "cost":
+        return held.tell_cost(numbers[0], numbers[1])
+    if name == "response":
+        return held.tell_response(numbers[0])
+    if name == "all":
+        return held.tell_all()
+    if name == "best":
+        return held.tell_best()
+    if name == "course":
+        return held.tell_course(numbers[0])
+    if name == "trace":
+        return held.tell_trace(numbers[0], numbers[1])
+    # Of the fifteen calls late alone is left.
+    return held.tell_late(numbers[0])
 
 
 def answers(calls):

@@ -23,6 +23,10 @@ class Task:
         times = [self.period, self.deadline, self.cycles, self.offset]
         return times + [len(self.useful)] + self.useful + [len(self.used)] + self.used
 
+    def useful_among(self, lines):
+        """How many of this task's useful lines are keys of a dict of lines."""
+        return len([line for line in self.useful if line in lines])
+
 
 def times_fit(times):
     """Whether period, deadline, cycles and offset are all there and within their bounds."""

@@ -7,6 +7,12 @@ MOST = 10 ** 18
 
 TASKS = [6]
 RANKS = [7]
+ALL = [10]
+BEST = [11]
+
+# The two tasks of the document's example.
+FIRST = [10, 10, 3, 0, 0, 2, 1, 2]
+SECOND = [20, 20, 8, 0, 3, 1, 2, 3, 4, 1, 2, 3, 4]
 
 
 def reload(n):
@@ -31,6 +37,31 @@ def order(tasks):
 
 def sort(kind):
     return [5, kind]
+
+
+def cost(i, j):
+    return [8, i, j]
+
+
+def response(i):
+    return [9, i]
+
+
+def course(h):
+    return [12, h]
+
+
+def trace(t, n):
+    return [13, t, n]
+
+
+def late(h):
+    return [14, h]
+
+
+def told(period, deadline, cycles, offset=0, useful=(), used=()):
+    """The numbers of a task."""
+    return [period, deadline, cycles, offset, len(useful), *useful, len(used), *used]
 
 
 def plain(period, deadline=1):

@@ -1,6 +1,7 @@
 import unittest
 
-from helper import LEAST, MOST, RANKS, TASKS, line, order, plain, reload, retask, sort, task, untask
+from helper import (ALL, BEST, FIRST, LEAST, MOST, RANKS, SECOND, TASKS, cost, course, late, line, order, plain, reload,
+                    response, retask, sort, task, trace, untask)
 
 from cachetasks.calls import read_calls
 from cachetasks.course import answers
@@ -18,8 +19,9 @@ class Watched(list):
 
 
 EVERY_CALL = line(
-    reload(1), task([10, 10, 3, 0, 0, 2, 1, 2]), task([20, 20, 8, 0, 3, 1, 2, 3, 4, 1, 2, 3, 4]),
-    order([1, 0]), RANKS, sort(0), TASKS, retask(0, plain(30)), sort(0), task([]), order([]),
+    reload(1), task(FIRST), task(SECOND), order([1, 0]), RANKS, ALL, BEST, late(30), sort(0), TASKS,
+    cost(1, 0), cost(0, 1), cost(2, 0), response(1), response(2), ALL, course(20), course(-1), trace(9, 5),
+    trace(0, 201), late(30), late(3001), retask(0, plain(30)), sort(0), task([]), order([]),
     reload(MOST), untask(LEAST), untask(0), TASKS, RANKS)
 
 EVERY_ANSWER = [
@@ -28,8 +30,23 @@ EVERY_ANSWER = [
     2, 0, 1,
     1, 0,
     3, 0, 1, 0,
+    5, 1, 1, 8, 0, 11,
+    3, 0, 0, 1,
+    3, 1, 10, 0,
     3, 0, 0, 1,
     23, 0, 2, 10, 10, 3, 0, 0, 2, 1, 2, 20, 20, 8, 0, 3, 1, 2, 3, 4, 1, 2, 3, 4,
+    2, 0, 2,
+    1, -4,
+    1, -3,
+    3, 0, 18, 3,
+    1, -3,
+    5, 0, 0, 3, 1, 18,
+    14, 0, 4, 2, 2, 0, 3, 3, 0, 1, 1, 0, 16, 16, 2,
+    1, -7,
+    6, 0, 2, 1, 1, 1, 2,
+    1, -7,
+    1, 0,
+    1, -7,
     1, 0,
     3, 0, 1, 0,
     1, -12,
@@ -56,13 +73,32 @@ class Answers(unittest.TestCase):
         self.assertEqual(answers([5, 1]), [1, 0])
         self.assertEqual(answers([6]), [2, 0, 0])
         self.assertEqual(answers([7]), [1, 0])
+        self.assertEqual(answers([8, 0, 0]), [1, -3])
+        self.assertEqual(answers([9, 0]), [1, -3])
+        self.assertEqual(answers([10]), [1, 0])
+        self.assertEqual(answers([11]), [1, 0])
+        self.assertEqual(answers([12, 5]), [2, 0, 5])
+        self.assertEqual(answers([12, 3001]), [1, -7])
+        self.assertEqual(answers([13, 5, 2]), [3, 0, 0, 0])
+        self.assertEqual(answers([13, 5, 0]), [1, 0])
+        self.assertEqual(answers([13, -1, 0]), [1, -7])
+        self.assertEqual(answers([14, 5]), [1, 0])
+        self.assertEqual(answers([14, -1]), [1, -7])
 
     def test_several_calls_in_one_list(self):
         self.assertEqual(answers(EVERY_CALL), EVERY_ANSWER)
 
     def test_the_documents_example(self):
-        calls = [0, 1, 1, 8, 10, 10, 3, 0, 0, 2, 1, 2, 1, 13, 20, 20, 8, 0, 3, 1, 2, 3, 4, 1, 2, 3, 4]
-        self.assertEqual(answers(calls), [1, 0, 2, 0, 0, 2, 0, 1])
+        held = [0, 1, 1, 8, 10, 10, 3, 0, 0, 2, 1, 2, 1, 13, 20, 20, 8, 0, 3, 1, 2, 3, 4, 1, 2, 3, 4]
+        told = [1, 0, 2, 0, 0, 2, 0, 1]
+        self.assertEqual(answers(held), told)
+        self.assertEqual(answers(held + [8, 1, 0]), told + [2, 0, 2])
+        self.assertEqual(answers(held + [9, 1, 0, 2, 9, 1, 0, 0, 9, 1]),
+                         told + [3, 0, 18, 3, 1, 0, 3, 1, 22, 2, 1, 0, 3, 0, 14, 3])
+        self.assertEqual(answers(held + [12, 20]), told + [14, 0, 4, 2, 2, 0, 3, 3, 0, 1, 1, 0, 16, 16, 2])
+        self.assertEqual(answers(held + [13, 9, 5]), told + [6, 0, 2, 1, 1, 1, 2])
+        self.assertEqual(answers(held + [11]), told + [3, 0, 0, 1])
+        self.assertEqual(answers(held + [4, 2, 1, 0, 10, 14, 30]), told + [1, 0, 5, 1, 1, 8, 0, 11, 3, 1, 10, 0])
 
     def test_a_row_ends_where_its_count_says(self):
         # Behind each row stands a call that its numbers could be taken for.

@@ -1,8 +1,6 @@
 import unittest
 
-from helper import LEAST, MOST, RANKS, TASKS, last, plain, reload, run, task
-
-from cachetasks.held import Held
+from helper import FIRST, LEAST, MOST, RANKS, SECOND, TASKS, cost, course, last, plain, reload, run, task
 
 
 class Reload(unittest.TestCase):
@@ -26,16 +24,17 @@ class Reload(unittest.TestCase):
                          [[0, 1] + told, [0, 0]])
 
     def test_is_what_a_line_costs_from_then_on(self):
-        # No call of this stage answers what is held here, so the object is asked itself.
-        held = Held()
-        self.assertEqual(held.line_cost, 0)
-        held.set_reload(20)
-        self.assertEqual(held.line_cost, 20)
-        held.set_reload(21)
-        held.set_reload(-1)
-        self.assertEqual(held.line_cost, 20)
-        held.set_reload(0)
-        self.assertEqual(held.line_cost, 0)
+        # The second task may lose two lines to the first: what that costs is asked behind each call.
+        asked = [cost(1, 0)]
+        for n in (20, 21, -1, 3, MOST, 0):
+            asked += [reload(n), cost(1, 0)]
+        found = run(task(FIRST), task(SECOND), *asked)
+        self.assertEqual(found[2::2], [[0, 0], [0, 40], [0, 40], [0, 40], [0, 6], [0, 6], [0, 0]])
+
+    def test_a_course_reloads_at_that_cost(self):
+        for n in (0, 1, 2):
+            with self.subTest(n=n):
+                self.assertEqual(last(reload(n), task(FIRST), task(SECOND), course(20))[-1], 2 * n)
 
 
 if __name__ == "__main__":

@@ -1,6 +1,7 @@
 import unittest
 
-from helper import MOST, RANKS, TASKS, order, plain, reload, retask, run, sort, task, untask
+from helper import (MOST, RANKS, TASKS, cost, course, late, order, plain, reload, response, retask, run, sort, task,
+                    trace, untask)
 
 A, B = [20, 15, 8, 3, 3, 9, 2, 5, 2, 7, 1], [10, 10, 3, 500, 0, 0]
 
@@ -12,6 +13,12 @@ REFUSED = {
     "untask": (untask(2), -3),
     "order": (order([0, 0]), -12),
     "sorted": (sort(2), -5),
+    "cost, no task": (cost(0, 2), -3),
+    "cost, not above": (cost(1, 0), -4),
+    "response": (response(2), -3),
+    "course": (course(3001), -7),
+    "trace": (trace(3000, 1), -7),
+    "late": (late(-1), -7),
 }
 
 
@@ -51,9 +58,9 @@ class TasksAndRanks(unittest.TestCase):
         self.assertEqual(found[10], [0, 5, 4, 3, 2, 1, 0])
 
     def test_many_refused_calls_one_behind_another(self):
-        calls = [call for call, refusal in REFUSED.values()] * 4
+        calls = [call for call, refusal in REFUSED.values()] * 2
         found = run(task(A), task(B), order([1, 0]), *calls, untask(MOST), TASKS, RANKS)
-        self.assertEqual(found[3:-3], [[refusal] for call, refusal in REFUSED.values()] * 4)
+        self.assertEqual(found[3:-3], [[refusal] for call, refusal in REFUSED.values()] * 2)
         self.assertEqual(found[-2:], [[0, 2] + A + B, [0, 1, 0]])
 
 
